@@ -1,0 +1,1 @@
+"""downpass: passes of satellites planned, and none better."""
