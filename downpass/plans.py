@@ -56,6 +56,11 @@ def is_taken_entry(entry):
     return entry is None or entry == OPEN or isinstance(entry, int)
 
 
+def is_filled(entry):
+    """True if an entry is neither None nor open."""
+    return entry is not None and entry != OPEN
+
+
 def with_made(case, number, entry):
     """The case with another entry for a recording."""
     made, taken = case

@@ -108,14 +108,26 @@ class World:
 def options(world, number):
     """The options of a recording: the pairs (start, p), ascending (point 14)."""
     recording = world.recordings[number]
-    found = []
-    for start in range(recording.earliest, recording.latest + 1):
-        ready = start + recording.length
-        for p, chance in enumerate(world.passes):
-            first, end = chance.span
-            if chance.satellite == recording.satellite and ready <= first and end <= recording.deadline:
-                found.append((start, p))
-    return tuple(found)
+    starts = range(recording.earliest, recording.latest + 1)
+    pairs = [(start, p) for start in starts for p in range(len(world.passes))]
+    return tuple([pair for pair in pairs if is_option(world, number, pair)])
+
+
+def is_option(world, number, pair):
+    """True if a pair (start, p) is one of the options of a recording (point 14)."""
+    recording = world.recordings[number]
+    start, p = pair
+    chance = world.passes[p]
+    if chance.satellite != recording.satellite or not recording.earliest <= start <= recording.latest:
+        return False
+    first, end = chance.span
+    return start + recording.length <= first and end <= recording.deadline
+
+
+def has_antenna(world, p, antenna):
+    """True if this is the number of an antenna of the station of a pass."""
+    station = world.passes[p].station
+    return 0 <= antenna < world.stations[station].antennas
 
 
 def light_minutes(satellite, first, end):
