@@ -1,6 +1,7 @@
 """Half-decided plans (point 17)."""
 
 from downpass.plans import OPEN
+from downpass.worlds import options
 
 
 def open_case(world):
@@ -24,3 +25,14 @@ def is_complete(case):
     """True if nothing is open in a case."""
     made, taken = case
     return OPEN not in made and OPEN not in taken
+
+
+def recording_choices(world, r):
+    """The tuple of the ways to decide an open recording: None, then its options in order."""
+    return (None,) + options(world, r)
+
+
+def pass_choices(world, p):
+    """The tuple of the ways to decide an open pass: None, then the antennas of its station in order."""
+    station = world.passes[p].station
+    return (None,) + tuple(range(world.stations[station].antennas))

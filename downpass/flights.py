@@ -1,7 +1,8 @@
 """What happens in a case, minute by minute (points 18 to 20)."""
 
 from downpass.plans import check_case, is_filled
-from downpass.worlds import has_antenna, is_option
+from downpass.spans import has_minute
+from downpass.worlds import has_antenna, is_option, light_minutes
 
 # The words of the events, in the order in which those of one minute are listed.
 WORDS = ("recorded", "sent", "records", "sends")
@@ -96,6 +97,44 @@ def battery_levels(world, case, number):
         levels.append(level)
         ahead = min(satellite.battery, level + charge)
     return tuple(levels)
+
+
+def store_peaks(world, case, number):
+    """A list of (minute, used) for the minutes, ascending, at which a satellite begins to hold something.
+
+    It uses more store than a minute before at none but these.
+    """
+    held = []
+    for r, start, p in made_recordings(world, case):
+        recording = world.recordings[r]
+        if recording.satellite == number:
+            _, end = world.passes[p].span
+            held.append(((start, end), recording.size))
+    minutes = sorted(set([span[0] for span, _ in held]))
+    return [(minute, sum([size for span, size in held if has_minute(span, minute)])) for minute in minutes]
+
+
+def battery_lows(world, case, number):
+    """A list of (minute, level, full) for the minutes, ascending, at which a satellite spends energy.
+
+    Its level is lower than a minute before at none but these. full is the last minute known behind
+    which the battery was full, or None if there is none.
+    """
+    satellite = world.satellites[number]
+    spent = spending(world, case, number)
+    found = []
+    level = satellite.start_level
+    last = 0
+    full = None
+    for minute in sorted(spent):
+        level += satellite.charge * light_minutes(satellite, last, minute)
+        if level >= satellite.battery and minute > 0:
+            level = satellite.battery
+            full = minute - 1
+        level -= spent[minute]
+        last = minute
+        found.append((minute, level, full))
+    return found
 
 
 def events_of(world, case):

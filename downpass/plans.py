@@ -1,6 +1,7 @@
 """Plans and cases, and the texts of plans (points 15 to 17)."""
 
 from downpass.errors import BadPlan
+from downpass.forms import is_tuple_of
 from downpass.lines import lines_of
 from downpass.worlds import names_of
 
@@ -34,11 +35,6 @@ def check_case(world, case):
         raise BadPlan("an entry of a recording that is none")
     if not all([is_taken_entry(entry) for entry in taken]):
         raise BadPlan("an entry of a pass that is none")
-
-
-def is_tuple_of(thing, many):
-    """True for a tuple with so many items."""
-    return isinstance(thing, tuple) and len(thing) == many
 
 
 def is_made_entry(world, entry):

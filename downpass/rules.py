@@ -1,6 +1,6 @@
 """The rules, and what breaks them (points 21 and 22)."""
 
-from downpass.flights import battery_levels, busy_things, made_recordings, store_used, taken_passes
+from downpass.flights import battery_lows, busy_things, made_recordings, store_peaks, taken_passes
 from downpass.plans import check_case, check_plan, is_filled
 from downpass.spans import lengthened, meet
 from downpass.worlds import has_antenna, is_option
@@ -16,6 +16,16 @@ def case_breaches(world, case):
     for number in numbers:
         found.extend(unit_breaches(world, case, number))
     return found
+
+
+def first_breach(world, case):
+    """The first breach of a case, or None; the others are not looked for."""
+    found = recording_breaches(world, case) or pass_breaches(world, case) or turn_breaches(world, case)
+    for number in range(len(world.satellites)):
+        found = found or busy_breaches(world, case, number)
+    for number in range(len(world.satellites)):
+        found = found or unit_breaches(world, case, number)
+    return found[0] if len(found) > 0 else None
 
 
 def breaches(world, plan):
@@ -110,9 +120,8 @@ def busy_breaches(world, case, number):
 def unit_breaches(world, case, number):
     """The breaches of the store and of the battery of a satellite."""
     satellite = world.satellites[number]
-    used = store_used(world, case, number)
-    levels = battery_levels(world, case, number)
-    over = [minute for minute, units in enumerate(used) if units > satellite.store]
-    low = [minute for minute, level in enumerate(levels) if level < satellite.reserve]
+    # The first minute of a breach is one at which something begins to be held, or is spent.
+    over = [minute for minute, used in store_peaks(world, case, number) if used > satellite.store]
+    low = [minute for minute, level, _ in battery_lows(world, case, number) if level < satellite.reserve]
     found = [("store", number, minute) for minute in over[:1]]
     return found + [("energy", number, minute) for minute in low[:1]]

@@ -17,6 +17,11 @@ FUNCTIONS = {
     "worth": ["base_of(world)", "recording_weight(world, r)", "weight_of(world, plan)", "value_of(world, plan)",
               "is_better(world, plan, other)"],
     "cases": ["open_case(world)", "belongs(plan, case)", "is_complete(case)"],
+    "rows": ["recording_part(world, row, r, option)", "pass_part(world, row, p)", "right_side(world, row)",
+             "left_side(world, row, plan)", "check_row(world, row)"],
+    "prices": ["bound(world, case, divisor, prices)"],
+    "papers": ["closes(world, case, weight, paper)", "shows(world, weight, paper)", "judges(world, plan, paper)"],
+    "planning": ["search(world, *, effort=200)", "lowest(world)", "search_case(world, case, *, effort=200)"],
 }
 CLASSES = {
     "errors": ["PassError", "TextFault", "BadPlan", "BadRow", "BadPrice"],
