@@ -8,7 +8,6 @@ nothing better than the plan found so far. If neither, it is divided over one op
 from heapq import heappop, heappush
 from math import gcd
 
-from downpass.boards import Board
 from downpass.fillings import filled
 from downpass.picks import pick
 from downpass.rules import first_breach
@@ -23,15 +22,15 @@ FIRST_WISHES = 60
 WISHES = 3
 # How many cases get better prices, so that a search over wide choices comes to an end in time.
 PATIENCE = 100
-MOST_PATIENCE = 10000
+MOST_PATIENCE = 3000
 
 
-def hunt(measure, least, case, effort):
+def hunt(board, least, case, effort):
     """The triple (plan, upper, paper) of a search of a case; all plans are worth more than least."""
-    breach = first_breach(measure.world, case)
+    breach = first_breach(board.world, case)
     if breach is not None:
         return (None, least, ("breach", breach))
-    return Hunt(Board(measure), least, case).run(min(effort, MOST_EFFORT))
+    return Hunt(board, least, case).run(min(effort, MOST_EFFORT))
 
 
 class Node:
@@ -114,7 +113,7 @@ class Hunt:
     def reckon(self, node, rounds):
         """Better the prices of a node, and take over what they choose if this is a plan."""
         tariff = Tariff(self.board, node.places, node.prices)
-        tariff.lower(rounds)
+        tariff.improve(rounds)
         node.need = self.need_of(tariff.bound())
         node.prices = tariff.pairs()
         node.paper = paper_of_prices(node.prices)

@@ -1,5 +1,6 @@
 """Searches for the best plan (points 32, 33 and 37)."""
 
+from downpass.boards import Board
 from downpass.cases import open_case
 from downpass.hunts import hunt
 from downpass.measures import Measure
@@ -19,4 +20,4 @@ def lowest(world):
 def search_case(world, case, *, effort=200):
     """The triple (plan, upper, paper) of a search of a case; the plan may be None."""
     check_case(world, case)
-    return hunt(Measure(world), lowest(world), case, effort)
+    return hunt(Board(Measure(world)), lowest(world), case, effort)

@@ -56,7 +56,7 @@ class Tariff:
             found.append([choices[place] for place in places[:many]])
         return found
 
-    def lower(self, most):
+    def improve(self, most):
         """Make the bound smaller, in at most so many rounds."""
         now = self.bound()
         for _ in range(most):

@@ -22,12 +22,25 @@ FUNCTIONS = {
     "prices": ["bound(world, case, divisor, prices)"],
     "papers": ["closes(world, case, weight, paper)", "shows(world, weight, paper)", "judges(world, plan, paper)"],
     "planning": ["search(world, *, effort=200)", "lowest(world)", "search_case(world, case, *, effort=200)"],
+    "reasons": ["option_cases(world, r)", "reason(world, plan, r, *, effort=200)", "explains(world, plan, r, told)"],
+    "goals": ["start_case(world, goal)", "changes(goal, plan)", "goal_weight(world, goal, plan)",
+              "recording_worth(world, goal, number, entry)", "pass_worth(world, goal, number, entry)",
+              "recording_entries(world, case, number)", "pass_entries(world, case, number)",
+              "goal_bound(world, goal, case, divisor, prices)"],
+    "repairs": ["closes_goal(world, goal, case, number, paper)", "judges_repair(world, plan, lost, repaired, paper)",
+                "repair(world, plan, lost, *, effort=200)"],
 }
 CLASSES = {
     "errors": ["PassError", "TextFault", "BadPlan", "BadRow", "BadPrice"],
     "worlds": ["World", "Satellite", "Station", "Recording", "Pass"],
     "flights": ["Flight"],
+    "goals": ["Goal"],
+    "desks": ["Desk"],
 }
+SIGNATURES = {("flights", "Flight"): "(world, case)", ("goals", "Goal"): "(world, plan, lost)",
+              ("desks", "Desk"): "(world)"}
+METHODS = {("worlds", "World"): ["parse", "__eq__"], ("flights", "Flight"): ["__init__", "__iter__", "__len__"],
+           ("goals", "Goal"): ["__init__"], ("desks", "Desk"): ["__init__", "best_plan", "offer", "weigh", "tried"]}
 
 
 def defined(module, name):
@@ -52,16 +65,29 @@ class Interface(unittest.TestCase):
                 found, here = defined(module, name)
                 self.assertTrue(inspect.isclass(found) and here, (module, name))
 
-    def test_what_is_made_of_a_world_and_a_case(self):
-        flight, _ = defined("flights", "Flight")
-        self.assertEqual(str(inspect.signature(flight)), "(world, case)")
+    def test_what_the_classes_are_made_of(self):
+        for module, name in SIGNATURES:
+            found, _ = defined(module, name)
+            self.assertEqual(str(inspect.signature(found)), SIGNATURES[module, name])
 
     def test_methods_stand_in_their_classes(self):
-        world, _ = defined("worlds", "World")
-        flight, _ = defined("flights", "Flight")
-        for owner, names in [(world, ["parse", "__eq__"]), (flight, ["__init__", "__iter__", "__len__"])]:
-            for name in names:
-                self.assertIn(name, vars(owner))
+        for module, name in METHODS:
+            owner, _ = defined(module, name)
+            for method in METHODS[module, name]:
+                self.assertIn(method, vars(owner), (name, method))
+
+    def test_the_methods_of_a_desk(self):
+        desk, _ = defined("desks", "Desk")
+        for name, due in [("offer", "(self, plan, paper)"), ("weigh", "(self, plan, paper)"), ("tried", "(self)")]:
+            self.assertEqual(str(inspect.signature(vars(desk)[name])), due)
+        self.assertIsInstance(vars(desk)["best_plan"], property)
+
+    def test_errors_are_under_the_base_of_all_errors(self):
+        base, _ = defined("errors", "PassError")
+        self.assertTrue(issubclass(base, ValueError))
+        for name in CLASSES["errors"]:
+            error, _ = defined("errors", name)
+            self.assertTrue(issubclass(error, base), name)
 
 
 if __name__ == "__main__":
