@@ -68,7 +68,7 @@ class Hunt:
     def run(self, effort):
         """Search with so many choices, and return the triple."""
         self.patience = min(PATIENCE + 5 * effort, MOST_PATIENCE)
-        while self.upper() > self.worth:
+        while self.shown() > self.worth:
             node = self.nodes[-self.queue[0][1]]
             if node.is_seen and effort == 0:
                 break
@@ -78,9 +78,9 @@ class Hunt:
                 self.divide(node)
             else:
                 self.look_at(node, ROUNDS)
-        return (self.plan, self.upper(), self.paper_of(self.root))
+        return (self.plan, self.shown(), self.paper_of(self.root))
 
-    def upper(self):
+    def shown(self):
         """The least number that is shown so far."""
         if len(self.queue) == 0:
             return self.worth
@@ -158,7 +158,7 @@ class Hunt:
 
     def paper_of(self, node):
         """The paper of a node that closes its case for what is shown so far."""
-        if node.thing is None or node.need <= self.upper():
+        if node.thing is None or node.need <= self.shown():
             return node.paper
         papers = tuple([node.paper if part is None else self.paper_of(part) for part in node.parts])
         many = self.board.measure.many_made

@@ -334,6 +334,30 @@ class Reasons(unittest.TestCase):
             self.assertEqual([call.args[1] for call in run.call_args_list], [due] * 10)
             self.assertEqual(told[0], "worse")
 
+    def test_an_upper_that_is_just_the_weight(self):
+        world = reason_world()
+        plan = (((4, 1), None, None), (None, 0))
+        weight = weight_of(world, plan)
+        # What the searches of the two option cases give, and the word and the upper that are told then.
+        for uppers, word in [((weight - 1, weight - 2), "worse"), ((weight - 1, weight), "unknown"),
+                             ((weight, 0), "unknown"), ((weight + 1, weight - 1), "unknown"),
+                             ((lowest(world), lowest(world)), "never"), ((lowest(world) + 1, lowest(world)), "worse")]:
+            found = [(None, upper, (str(k),)) for k, upper in enumerate(uppers)]
+            with mock.patch("downpass.reasons.hunt", side_effect=found):
+                told = reason(world, plan, 1, effort=7)
+            self.assertEqual(told[0], word)
+            self.assertEqual(told[1:], ((("0",), ("1",)),) if word == "never" else (max(uppers), (("0",), ("1",))))
+
+    def test_the_first_option_case_with_a_plan_that_is_as_good(self):
+        world = reason_world()
+        plan = (((4, 1), None, None), (None, 0))
+        worse, good = empty_plan(world), (((5, 1), None, None), (None, 0))
+        for plans, due in [((good, None), good), ((None, good), good), ((worse, good), good), ((worse, None), None)]:
+            found = [(one, 10 ** 9, ()) for one in plans]
+            with mock.patch("downpass.reasons.hunt", side_effect=found):
+                told = reason(world, plan, 1)
+            self.assertEqual(told, ("as good", due) if due else ("unknown", 10 ** 9, ((), ())))
+
     def test_a_hard_world(self):
         world = hard_world()
         plan = empty_plan(world)
